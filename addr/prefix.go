@@ -5,6 +5,7 @@ import (
 	"strings"
 
 	"vinery/api"
+	"vinery/digits"
 )
 
 // maxBits is how many bits an address has at most.
@@ -50,7 +51,7 @@ func PrefixText(p api.Prefix) string {
 func ParsePrefix(s string) (api.Prefix, api.Errno) {
 	head, tail, _ := strings.Cut(s, "/")
 	a, errno := Parse(head)
-	bits, ok := number(tail, 10, maxBits)
+	bits, ok := digits.Number(tail, 10, maxBits)
 	p := api.Prefix{Addr: a, Bits: bits}
 	if errno != api.OK || !ok || PrefixText(p) != s {
 		return api.Prefix{}, api.ErrForm

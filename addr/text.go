@@ -7,6 +7,7 @@ import (
 
 	"vinery/api"
 	"vinery/cursor"
+	"vinery/digits"
 )
 
 const (
@@ -128,35 +129,11 @@ func numbers(s, between string, base, top int) ([]int, bool) {
 	for more := s != ""; more && len(row) <= pairs; {
 		var word string
 		word, s, more = strings.Cut(s, between)
-		n, ok := number(word, base, top)
+		n, ok := digits.Number(word, base, top)
 		if !ok {
 			return nil, false
 		}
 		row = append(row, n)
 	}
 	return row, true
-}
-
-// number reads one that is no greater than top, with any zeros ahead.
-func number(s string, base, top int) (int, bool) {
-	n := 0
-	for _, r := range s {
-		d := digit(r)
-		if d >= base || n*base+d > top {
-			return 0, false
-		}
-		n = n*base + d
-	}
-	return n, s != ""
-}
-
-// digit is what a rune stands for, in base 16; 16, if it is no digit.
-func digit(r rune) int {
-	switch {
-	case '0' <= r && r <= '9':
-		return int(r - '0')
-	case 'a' <= r && r <= 'f':
-		return int(r-'a') + 10
-	}
-	return 16
 }
