@@ -1,4 +1,4 @@
-// Package rows writes and reads things in bytes, one behind another: for the layers that have rows of routes.
+// Package rows writes and reads things in bytes, one behind another: for the layers that have rows of them.
 package rows
 
 import "vinery/api"
