@@ -6,6 +6,7 @@ import (
 	"vinery/addr"
 	"vinery/api"
 	"vinery/cursor"
+	"vinery/family"
 	"vinery/mroute"
 	"vinery/uroute"
 )
@@ -41,7 +42,7 @@ func readTable(b []byte, reached bool) ([]api.Table, int) {
 
 // family reads which one it is.
 func (r *reader) family() {
-	r.table.Size = sizeOf(r.Num(2))
+	r.table.Size = family.Size(r.Num(2))
 	r.table.Safi = r.Num(1)
 }
 

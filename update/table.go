@@ -5,44 +5,16 @@ import (
 
 	"vinery/addr"
 	"vinery/api"
+	"vinery/family"
 	"vinery/mroute"
 	"vinery/uroute"
-)
-
-// The sizes of addresses, and what stands for them in bytes.
-const (
-	sizeFour   = 4
-	sizeSix    = 16
-	numberFour = 1
-	numberSix  = 2
 )
 
 // rdSize is how many bytes a distinguisher has.
 const rdSize = 8
 
-// sizeOf is the size that a number stands for: 0, if it stands for none.
-func sizeOf(number int) int {
-	switch number {
-	case numberFour:
-		return sizeFour
-	case numberSix:
-		return sizeSix
-	}
-	return 0
-}
-
-// numberOf is the way back, of a size that is one.
-func numberOf(size int) byte {
-	if size == sizeFour {
-		return numberFour
-	}
-	return numberSix
-}
-
 // known tells whether a table is of one of the four families.
-func known(t api.Table) bool {
-	return (t.Size == sizeFour || t.Size == sizeSix) && (t.Safi == api.SafiMulti || t.Safi == api.SafiPrivate)
-}
+func known(t api.Table) bool { return family.Known(api.Family{Size: t.Size, Safi: t.Safi}) }
 
 // hasRoutes tells whether a table has any.
 func hasRoutes(t api.Table) bool { return len(t.M)+len(t.U) > 0 }
@@ -74,14 +46,14 @@ func isUroute(u api.Uroute, size int) bool { return uroute.Right(u) && u.Prefix.
 
 // value is that of a table that is right.
 func value(t api.Table, reached bool) []byte {
-	family := []byte{0, numberOf(t.Size), byte(t.Safi)}
+	first := []byte{0, family.Number(t.Size), byte(t.Safi)}
 	var next []byte
 	if reached {
 		next = nextBytes(t)
 	}
 	m, _ := mroute.Row(t.M...)
 	u, _ := uroute.Row(t.U...)
-	return slices.Concat(family, next, m, u)
+	return slices.Concat(first, next, m, u)
 }
 
 // nextBytes are those of a Next, and what stands around it.
